@@ -96,13 +96,13 @@ class TestAboveBeneath(unittest.TestCase):
                 self.assertEqual(beneath(family, kind), under)
 
     def test_a_great_family_is_not_gone_through_way_by_way(self):
-        family = [("aa", ()), ("ab", ())]
+        family = [("aa", ()), ("ab", ()), ("ac", ())]
         for letter in "bcdefghijklmnopqrstuvwxyz":
-            elders = (family[-2][0], family[-1][0])
-            family += [(letter + "a", elders), (letter + "b", elders)]
+            elders = tuple(kind for kind, _ in family[-3:])
+            family += [(letter + end, elders) for end in "abc"]
         family = tuple(family)
-        self.assertEqual(len(above(family, "za")), 50)
-        self.assertEqual(len(beneath(family, "aa")), 50)
+        self.assertEqual(len(above(family, "za")), 75)
+        self.assertEqual(len(beneath(family, "aa")), 75)
 
     def test_no_kind(self):
         for ask in (above, beneath):

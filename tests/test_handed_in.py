@@ -5,10 +5,15 @@ import unittest
 
 from things import CHAIN, ELDERS_QUARREL, SEVEN, THREE_QUARREL, TWO_QUARREL
 from test_errors import REFUSALS
+from test_programs import PROGRAM
+from test_shapes import SHAPES
 from test_tables import TABLE
-from warmrows.errors import NoKind, NoOrder, RowError
+from warmrows.changes import back, changed, turned
+from warmrows.errors import NoChange, NoField, NoKind, NoOrder, NoShape, RowError
 from warmrows.families import above, beneath, is_family
 from warmrows.orders import order_of, rows_for
+from warmrows.programs import is_program, table_of
+from warmrows.shapes import fields_at, shape_by
 from warmrows.tables import behind, found, is_table, new_fields
 
 REFUSED = [
@@ -21,6 +26,16 @@ REFUSED = [
     (NoKind, behind, (TABLE, {"a": []}, ["a"], "go")),
     (NoKind, new_fields, (TABLE, ["a"])),
     (NoOrder, rows_for, (ELDERS_QUARREL, "d")),
+    (NoChange, changed, (TABLE, ["own", "a", ["go"], 1])),
+    (NoChange, changed, (TABLE, ("own", "a", "none", None))),
+    (NoChange, turned, (TABLE, ("elders", "a", ["b"]))),
+    (NoChange, turned, (TABLE, ("elders", "a", ("c",)))),
+    (NoChange, back, (TABLE, {"a": [1]})),
+    (NoChange, back, (TABLE, ("elders", "c", ("o", "a")))),
+    (NoShape, fields_at, (SHAPES, [1])),
+    (NoShape, shape_by, (SHAPES, {1: [1]}, "put", "x")),
+    (NoField, shape_by, (SHAPES, 1, "put", "x")),
+    (NoField, shape_by, (SHAPES, 1, "drop", "y")),
 ]
 
 TOLD = [
@@ -41,6 +56,20 @@ TOLD = [
     (is_table, (TABLE,)),
     (is_table, ([list(row) for row in TABLE],)),
     (is_table, (tuple(list(row) for row in TABLE),)),
+    (changed, (TABLE, ("own", "a", "go", None))),
+    (changed, (TABLE, ("own", "a", "aa", 1))),
+    (changed, (TABLE, ("elders", "c", ("b", "a")))),
+    (turned, (TABLE, ("own", "o", "go", 9))),
+    (turned, (TABLE, ("elders", "c", ()))),
+    (back, (TABLE, ("own", "o", "go", 9))),
+    (back, (TABLE, ("elders", "c", ()))),
+    (fields_at, (SHAPES, 5)),
+    (shape_by, (SHAPES, 5, "drop", "x")),
+    (shape_by, (SHAPES, 1, "put", "y")),
+    (is_program, (PROGRAM,)),
+    (is_program, ([list(part) for part in PROGRAM],)),
+    (is_program, (PROGRAM[:2] + ([["tell", [1]]],),)),
+    (table_of, (PROGRAM,)),
 ]
 
 
