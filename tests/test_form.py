@@ -24,6 +24,12 @@ WORDS_OUT = (
     r"|namedtuple|NamedTuple|TypedDict|TYPE_CHECKING|abstractmethod)\b|dataclass|overload|contextmanager"
 )
 
+METHODS = set(
+    "append clear copy count endswith extend find get index insert isalnum isalpha isdigit islower isspace isupper"
+    " items join keys ljust lower lstrip partition pop remove replace reverse rfind rjust rpartition rsplit rstrip"
+    " setdefault split splitlines startswith strip update upper values zfill bit_length".split()
+)
+
 
 class TestForm(unittest.TestCase):
     def setUp(self):
@@ -104,6 +110,18 @@ class TestForm(unittest.TestCase):
                 self.assertNotIn(node.arg, python_own, where)
             if isinstance(node, ast.FunctionDef):
                 self.assertTrue(node.name == "__init__" or not node.name.startswith("_"), where)
+
+    def test_methods_and_values_of_objects(self):
+        classes = [node for _, node in self.nodes() if isinstance(node, ast.ClassDef)]
+        own = {each.name for node in classes for each in node.body if isinstance(each, ast.FunctionDef)}
+        given = {node.attr for _, node in self.nodes()
+                 if isinstance(node, ast.Attribute) and isinstance(node.ctx, ast.Store)}
+        self.assertEqual(own & given, set())
+        python_own = {name for thing in ("", 0, [], {}, set(), b"") for name in dir(thing)} - {"__init__"}
+        self.assertEqual((own | given) & python_own, set())
+        for name, node in self.nodes():
+            if isinstance(node, ast.Attribute):
+                self.assertIn(node.attr, METHODS | own | given, (name, node.lineno))
 
     def test_no_local_is_called_like_an_import(self):
         for name, tree in self.trees.items():

@@ -8,13 +8,15 @@ from test_errors import REFUSALS
 from test_programs import PROGRAM
 from test_shapes import SHAPES
 from test_tables import TABLE
+from test_texts import TEXT
 from warmrows.changes import back, changed, turned
-from warmrows.errors import NoChange, NoField, NoKind, NoOrder, NoShape, RowError
+from warmrows.errors import NoChange, NoField, NoKind, NoOrder, NoShape, NoText, RowError
 from warmrows.families import above, beneath, is_family
 from warmrows.orders import order_of, rows_for
 from warmrows.programs import is_program, table_of
 from warmrows.shapes import fields_at, shape_by
 from warmrows.tables import behind, found, is_table, new_fields
+from warmrows.texts import read_program, show_program
 
 REFUSED = [
     (NoKind, above, (CHAIN, ["a"])),
@@ -36,6 +38,9 @@ REFUSED = [
     (NoShape, shape_by, (SHAPES, {1: [1]}, "put", "x")),
     (NoField, shape_by, (SHAPES, 1, "put", "x")),
     (NoField, shape_by, (SHAPES, 1, "drop", "y")),
+    (NoText, read_program, (["kind a 0", ["run"], "end"],)),
+    (NoText, read_program, ({"kind": ["a"]},)),
+    (NoText, read_program, (TEXT + "\n",)),
 ]
 
 TOLD = [
@@ -70,6 +75,8 @@ TOLD = [
     (is_program, ([list(part) for part in PROGRAM],)),
     (is_program, (PROGRAM[:2] + ([["tell", [1]]],),)),
     (table_of, (PROGRAM,)),
+    (show_program, (PROGRAM,)),
+    (read_program, (TEXT,)),
 ]
 
 
