@@ -10,13 +10,15 @@ from test_shapes import SHAPES
 from test_tables import TABLE
 from test_texts import TEXT
 from warmrows.changes import back, changed, turned
-from warmrows.errors import NoChange, NoField, NoKind, NoOrder, NoShape, NoText, RowError
+from warmrows.errors import NoChange, NoField, NoKind, NoLimit, NoOrder, NoShape, NoText, RowError
 from warmrows.families import above, beneath, is_family
 from warmrows.orders import order_of, rows_for
 from warmrows.programs import is_program, table_of
+from warmrows.rows import book_of
 from warmrows.shapes import fields_at, shape_by
 from warmrows.tables import behind, found, is_table, new_fields
 from warmrows.texts import read_program, show_program
+from warmrows.trees import run_trees
 
 REFUSED = [
     (NoKind, above, (CHAIN, ["a"])),
@@ -41,6 +43,9 @@ REFUSED = [
     (NoText, read_program, (["kind a 0", ["run"], "end"],)),
     (NoText, read_program, ({"kind": ["a"]},)),
     (NoText, read_program, (TEXT + "\n",)),
+    (NoLimit, run_trees, (PROGRAM, -1)),
+    (NoLimit, run_trees, (PROGRAM, [1])),
+    (NoLimit, run_trees, (PROGRAM, {1: [1]})),
 ]
 
 TOLD = [
@@ -77,6 +82,10 @@ TOLD = [
     (table_of, (PROGRAM,)),
     (show_program, (PROGRAM,)),
     (read_program, (TEXT,)),
+    (run_trees, (PROGRAM, 0)),
+    (run_trees, (PROGRAM, 9)),
+    (run_trees, (PROGRAM, 400)),
+    (book_of, (PROGRAM,)),
 ]
 
 

@@ -153,7 +153,8 @@ class TestWriting(TextCase):
             elders = ("f", "b", "d", "a", "c", "e")[:many]
             for fields in ((), ("x",), ("y", "x"), ("a", "c", "b")):
                 program = (kinds + (("g", elders, fields),), (), ())
-                self.assertEqual(show_program(program).split("\n")[6], " ".join(("kind", "g", str(many)) + elders + fields))
+                words = ("kind", "g", str(many)) + elders + fields
+                self.assertEqual(show_program(program).split("\n")[6], " ".join(words))
                 self.goes_both_ways(program)
 
     def test_deeds(self):
@@ -288,8 +289,8 @@ class TestRefusals(TextCase):
         for word in ("0", "1", "9", "10", "100000000", "999999999"):
             self.body_row(None, "tell " + word)
             self.body_row(None, "put me x plus 1 " + word)
-        for word in ("00", "01", "0999999999", "000", "1000000000", "9999999999", "1" + "0" * 20, "1" * 6000, "-1", "+1",
-                     "-0", "1.0", "1_0", "0x1", "1a", "", "True", "None"):
+        for word in ("00", "01", "0999999999", "000", "1000000000", "9999999999", "1" + "0" * 20, "1" * 6000,
+                     "-1", "+1", "-0", "1.0", "1_0", "0x1", "1a", "", "True", "None"):
             self.body_row(0, "tell " + word)
             self.body_row(0, "put me x plus 1 " + word)
             self.body_row(1, "do 1", "while " + word, "end")
@@ -418,8 +419,11 @@ class TestBounds(TextCase):
         names = ["v" + letter for letter in "abcdefghijklmnopqrstu"]
 
         def telling(some):
-            return ["do ask 0 go " + " ".join([str(len(some[at:at + 3]))] + ["name " + name for name in some[at:at + 3]])
-                    for at in range(0, len(some), 3)]
+            rows = []
+            for at in range(0, len(some), 3):
+                args = ["name " + name for name in some[at:at + 3]]
+                rows.append(" ".join(["do ask 0 go", str(len(args))] + args))
+            return rows
 
         for rows in (["let vu 1"], ["try", "catch vu", "end"], ["try", "let vu 1", "catch va", "end"],
                      ["tell plus 1 minus 2 name vu"], ["while name vu", "end"], ["do up go 2 1 name vu"],

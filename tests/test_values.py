@@ -73,6 +73,12 @@ class TestValues(unittest.TestCase):
                     self.assertEqual(thrown(deed, wrong, other), "kind")
                     self.assertEqual(thrown(deed, other, wrong), "kind")
 
+    def test_numbers_that_a_program_beyond_its_bounds_brings_along(self):
+        self.assertEqual(minus(MOST + 1, 1), MOST)
+        self.assertEqual(thrown(plus, MOST + 1, 0), "great")
+        self.assertEqual(less(MOST, MOST + 1), 1)
+        self.assertEqual(thrown(plus, MOST + 1, None), "kind")
+
     def test_alike(self):
         for at, first in enumerate(VALUES):
             for other, second in enumerate(VALUES):

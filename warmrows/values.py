@@ -42,19 +42,22 @@ def is_yes(value):
 
 def plus(first, second):
     """The sum of two numbers."""
-    check_numbers(first, second)
+    check_number(first)
+    check_number(second)
     return within_figures(first + second)
 
 
 def minus(first, second):
     """The first of two numbers without the second."""
-    check_numbers(first, second)
+    check_number(first)
+    check_number(second)
     return within_figures(first - second)
 
 
 def less(first, second):
     """1 where the first of two numbers is the lesser one, else 0."""
-    check_numbers(first, second)
+    check_number(first)
+    check_number(second)
     return int(first < second)
 
 
@@ -63,9 +66,10 @@ def alike(first, second):
     return int(first == second)
 
 
-def check_numbers(first, second):
-    """Throw where not both are numbers."""
-    if not is_number(first) or not is_number(second):
+def check_number(value):
+    """Throw where a value is no number."""
+    # One that a program beyond its bounds brings along may have more than nine figures.
+    if not is_whole(value):
         raise Thrown("kind")
 
 
@@ -74,3 +78,12 @@ def within_figures(number):
     if not is_number(number):
         raise Thrown("great")
     return number
+
+
+PAIRS = {"plus": plus, "minus": minus, "less": less, "alike": alike}
+
+
+def told_of(word, first, second):
+    """What plus, minus, less or alike tells of two values."""
+    deed = PAIRS[word]
+    return deed(first, second)
