@@ -9,16 +9,33 @@ from test_programs import PROGRAM
 from test_shapes import SHAPES
 from test_tables import TABLE
 from test_texts import TEXT
+from test_trees import program
+from test_warm import CHANGING, HEADS
 from warmrows.changes import back, changed, turned
-from warmrows.errors import NoChange, NoField, NoKind, NoLimit, NoOrder, NoShape, NoText, RowError
+from warmrows.errors import NoChange, NoField, NoKind, NoLimit, NoOrder, NoShape, NoText, NoWarming, RowError
 from warmrows.families import above, beneath, is_family
+from warmrows.hot import Hot
+from warmrows.lies import lies
+from warmrows.looker import is_book, is_form, look
+from warmrows.machine import asks_of, gone_on, started, telling
 from warmrows.orders import order_of, rows_for
+from warmrows.places import asked
 from warmrows.programs import is_program, table_of
 from warmrows.rows import book_of
 from warmrows.shapes import fields_at, shape_by
 from warmrows.tables import behind, found, is_table, new_fields
 from warmrows.texts import read_program, show_program
 from warmrows.trees import run_trees
+from warmrows.warm import warm_on
+
+BOOK = book_of(program(CHANGING[3], HEADS))
+# Lists in the place of tuples, and rows that come short.
+SPOILT = (BOOK[0], ([list(row) for row in BOOK[1][0][0]],) + BOOK[1][1:])
+SHORT = (BOOK[0], (((("mark", 0), ("pop",), ("push", None), ("give",)), (), 0, 1),) * len(BOOK[1]))
+UNLIKE = (BOOK[0], (((("mark", 0), ("push", None), ("go", 0)), (), 0, 1),) * len(BOOK[1]))
+WARMING = (0, 2, 1, 0)
+STATE, PLACES = warm_on(BOOK, WARMING, started(BOOK), (), 25)
+PLACE = ("warm", 0, (("a", 0, ("a", 1)), ("b", 1, ("a", 1))), (1, 2, 3, 4))
 
 REFUSED = [
     (NoKind, above, (CHAIN, ["a"])),
@@ -46,6 +63,18 @@ REFUSED = [
     (NoLimit, run_trees, (PROGRAM, -1)),
     (NoLimit, run_trees, (PROGRAM, [1])),
     (NoLimit, run_trees, (PROGRAM, {1: [1]})),
+    (NoLimit, gone_on, (BOOK, STATE, [1])),
+    (NoLimit, gone_on, (BOOK, STATE, 401)),
+    (NoLimit, asks_of, (BOOK, STATE, {1: [1]})),
+    (NoLimit, asks_of, (BOOK, STATE, -1)),
+    (NoLimit, warm_on, (BOOK, WARMING, STATE, PLACES, [1])),
+    (NoLimit, warm_on, (BOOK, WARMING, STATE, PLACES, 401)),
+    (NoWarming, warm_on, (BOOK, [0, 1, 1, 0], STATE, PLACES, [1])),
+    (NoWarming, warm_on, (BOOK, (0, 0, 1, 0), STATE, PLACES, 400)),
+    (NoWarming, asked, ([0, 1, [1], 0], PLACE, "a", 0, None)),
+    (NoWarming, asked, ((0, 1, 1, 10), PLACE, "a", 0, None)),
+    (NoWarming, Hot, (BOOK, {0: [1]})),
+    (NoWarming, Hot, (BOOK, (10, 1, 1, 0))),
 ]
 
 TOLD = [
@@ -86,6 +115,32 @@ TOLD = [
     (run_trees, (PROGRAM, 9)),
     (run_trees, (PROGRAM, 400)),
     (book_of, (PROGRAM,)),
+    (is_form, (BOOK,)),
+    (is_form, (SPOILT,)),
+    (is_form, (list(BOOK),)),
+    (is_book, (BOOK,)),
+    (is_book, (SHORT,)),
+    (is_book, (SPOILT,)),
+    (look, (BOOK, 0)),
+    (look, (BOOK, 3)),
+    (look, (SHORT, 0)),
+    (look, (UNLIKE, 0)),
+    (started, (BOOK,)),
+    (gone_on, (BOOK, started(BOOK), 25)),
+    (gone_on, (BOOK, STATE, 60)),
+    (gone_on, (BOOK, STATE, 10)),
+    (telling, (STATE,)),
+    (asks_of, (BOOK, STATE, 60)),
+    (asked, (WARMING, PLACE, "a", 0, None)),
+    (asked, (WARMING, PLACE, "a", 1, ("a", 2))),
+    (asked, (WARMING, PLACE, "c", 1, ("a", 2))),
+    (asked, (WARMING, ("cold", 0, (), (0, 0, 0, 0)), "c", 1, ("a", 2))),
+    (asked, (WARMING, ("wild", 0, (), (0, 0, 0, 0)), "c", 1, None)),
+    (warm_on, (BOOK, WARMING, STATE, PLACES, 60)),
+    (warm_on, (BOOK, WARMING, STATE, (), 60)),
+    (warm_on, (BOOK, WARMING, STATE, PLACES, 10)),
+    (lies, (BOOK, STATE, PLACES)),
+    (lies, (BOOK, started(BOOK), PLACES)),
 ]
 
 

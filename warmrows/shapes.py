@@ -4,9 +4,14 @@ from warmrows.errors import NoField, NoShape
 from warmrows.families import is_whole
 
 
+def is_shape(shapes, thing):
+    """Whether a thing of any kind is a shape's number."""
+    return is_whole(thing) and 0 <= thing < len(shapes)
+
+
 def fields_at(shapes, number):
     """The fields of the shape with a number."""
-    if not is_whole(number) or not 0 <= number < len(shapes):
+    if not is_shape(shapes, number):
         raise NoShape("no shape has this number")
     fields = []
     for step in story_of(shapes, number):
