@@ -39,8 +39,8 @@ class Lively:
         return ("name", self.pick("t", "t", "u"))
 
     def value(self, params):
-        return self.pick(1, 2, None, ("me",), ("get", ("me",), self.pick("x", "x", "y")), ("new", self.pick(*self.kinds)),
-                         *[("name", param) for param in params * 3])
+        return self.pick(1, 2, None, ("me",), ("get", ("me",), self.pick("x", "x", "y")),
+                         ("new", self.pick(*self.kinds)), *[("name", param) for param in params * 3])
 
     def asking(self, thing, params):
         deed, its = self.pick(*DEEDS)

@@ -87,7 +87,8 @@ class BookMaker:
 
     def thing(self):
         if self.height < self.floor + 1 or self.chance(80):
-            self.lay(self.pick(("new", self.pick(*KINDS)), ("new", "c"), ("name", 0) if self.inner else ("new", "b")), 1)
+            me = ("name", 0) if self.inner else ("new", "b")
+            self.lay(self.pick(("new", self.pick(*KINDS)), ("new", "c"), me), 1)
         word = self.pick("get", "drop", "become", "put", "ask", "ask", "ask", "up", "up")
         if word in ("get", "drop"):
             self.lay((word, self.pick(*FIELDS)), 0 if word == "get" else -1)

@@ -13,7 +13,7 @@ from warmrows.rows import book_of
 
 class TestAsks(MachineCase):
     def asks(self, asks, *rows, **others):
-        """All asks of a run whose RUN has these rows, behind the first one, without MANY and BODY where these are 1, 0."""
+        """All asks of a run whose RUN has these rows behind its first; without MANY and BODY where they are RUN's."""
         book = self.good(book_with(body(("mark", 0), *rows, *END), **others))
         told = asks_of(book, started(book), 400)
         self.assertEqual([ask[2:] if ask[:2] == (1, 0) else ask for ask in told], asks, rows)
@@ -65,7 +65,8 @@ class TestAsks(MachineCase):
         up = body(("mark", 0), ("name", 0), ("up", "go", 0), ("give",))
         self.asks([(1, "c", 1, 3), (2, "c", 1, ("b", 3)), (2, 3, 2, ("c", "b"), 1, ("a", 1))], C, ("ask", "go", 0),
                   body3=up)
-        self.asks([(1, "a", 0, 2), (2, "a", 0, ("a", 1)), (2, 1, 2, ("a", "a"), 0, None)], A, ("ask", "go", 0), body1=up)
+        self.asks([(1, "a", 0, 2), (2, "a", 0, ("a", 1)), (2, 1, 2, ("a", "a"), 0, None)], A, ("ask", "go", 0),
+                  body1=up)
         # Of a thing of a kind that hasn't the home in its order.
         other = body(("mark", 0), ("new", "a"), ("up", "go", 0), ("give",))
         self.asks([(1, "b", 2, 3), (2, "b", 2, ("b", 3)), (2, 3, 1, "a", 0, 2), (2, 3, 2, ("a", "b"), 0, None)], B,

@@ -184,7 +184,8 @@ class TestWhichBodies(HotCase):
         self.in_line(one, True)
 
     def test_params(self):
-        one = body(("mark", 0), ("name", 1), ("set", 3), ("name", 2), ("tell",), ("name", 3), ("give",), params=2, names=5)
+        one = body(("mark", 0), ("name", 1), ("set", 3), ("name", 2), ("tell",), ("name", 3), ("give",), params=2,
+                   names=5)
         args = (("push", 6), ("push", 7))
         self.counts((1, 5), self.asks_often(6, A, ("ask", "on", 2), args, body2=one))
 

@@ -21,7 +21,8 @@ NO_WARMINGS = ALIENS + HOMELY + [
     ((1, 2, 3, 4),), (1, 2, (3, 4)), {1: 1, 2: 2, 3: 3, 4: 4}, (1, 2, 3, [4]), (10 ** 30, 1, 1, 1),
 ] + [
     good[:at] + (part,) + good[at + 1:]
-    for good in (LEAST, (5, 5, 5, 5), MOST) for at in range(4) for part in (LEAST[at] - 1, 10, True, False, None, "1", ())
+    for good in (LEAST, (5, 5, 5, 5), MOST) for at in range(4)
+    for part in (LEAST[at] - 1, 10, True, False, None, "1", ())
 ]
 BOOK = book_of(((("a", (), ()),), (), (("do", ("new", "a")),)))
 
